@@ -1,0 +1,1 @@
+"""Bentstretch: maps of a stretch made of straight pieces."""

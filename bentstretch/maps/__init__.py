@@ -1,0 +1,1 @@
+"""Maps: how they are written, and what their values tell."""

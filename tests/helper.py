@@ -1,0 +1,90 @@
+"""What several tests need: maps made without the program, and a plain look at what it told."""
+
+from fractions import Fraction
+from math import gcd
+from random import Random
+
+
+def pair(worth):
+    """A fraction as the program has it, of a text, a whole number or a Fraction."""
+    number = Fraction(worth)
+    return (number.numerator, number.denominator)
+
+
+def number(one):
+    """The Fraction that a fraction of the program is."""
+    return Fraction(one[0], one[1])
+
+
+def made(*lines):
+    """A map of lines `AT TO`, read without the program."""
+    return tuple(tuple(pair(word) for word in line.split()) for line in lines)
+
+
+def spans(*lines):
+    """A tuple of pairs of lines `LOW HIGH`; a single word is a single point."""
+    rows = [line.split() for line in lines]
+    return tuple((pair(row[0]), pair(row[-1])) for row in rows)
+
+
+def points(*words):
+    """A tuple of fractions of texts."""
+    return tuple(pair(word) for word in words)
+
+
+def is_whole(thing):
+    """Whether it is an int that is no truth."""
+    return type(thing) is int
+
+
+def is_fraction(thing):
+    """Whether it is a fraction as the document has it, in least numbers."""
+    if type(thing) is not tuple or len(thing) != 2:
+        return False
+    if not is_whole(thing[0]) or not is_whole(thing[1]):
+        return False
+    return thing[1] >= 1 and gcd(thing[0], thing[1]) == 1
+
+
+def is_row(thing, long=None):
+    """Whether it is a tuple of fractions, of so many where long is told."""
+    if type(thing) is not tuple or (long is not None and len(thing) != long):
+        return False
+    return all(is_fraction(one) for one in thing)
+
+
+def are_rows(thing, long=None):
+    """Whether it is a tuple of tuples of fractions."""
+    return type(thing) is tuple and all(is_row(row, long) for row in thing)
+
+
+def height(knots, at):
+    """The value of a map at a Fraction, taken without the program."""
+    for one, other in zip(knots, knots[1:]):
+        low, high = number(one[0]), number(other[0])
+        if low <= at <= high:
+            share = (at - low) / (high - low)
+            return number(one[1]) * (1 - share) + number(other[1]) * share
+    raise AssertionError("the point is not of the stretch")
+
+
+def grid(knots, parts):
+    """Fractions all along the stretch of a map, both ends and all knots among them."""
+    low, high = number(knots[0][0]), number(knots[-1][0])
+    even = {low + (high - low) * step / parts for step in range(parts + 1)}
+    return sorted(even | {number(knot[0]) for knot in knots})
+
+
+def some_maps(seed, many, knots, coarse=6):
+    """Maps of few knots on unlike stretches, the same ones each time."""
+    chance = Random(seed)
+    told = []
+    while len(told) < many:
+        low = Fraction(chance.randint(-9, 9), chance.randint(1, 4))
+        high = low + Fraction(chance.randint(1, 12), chance.randint(1, 4))
+        amid = {chance.randint(1, coarse * 2 - 1) for step in range(chance.randint(0, knots - 2))}
+        shares = [0] + sorted(amid) + [coarse * 2]
+        ats = [low + (high - low) * share / (coarse * 2) for share in shares]
+        tos = [low + (high - low) * chance.randint(0, coarse) / coarse for at in ats]
+        told.append(tuple((pair(at), pair(to)) for at, to in zip(ats, tos)))
+    return told

@@ -1,0 +1,126 @@
+"""The package keeps to the subset of Python that it is written in, as far as a plain look can tell."""
+
+import ast
+import builtins
+import re
+import unittest
+from pathlib import Path
+
+ROOT = Path(__file__).resolve().parent.parent
+PACKAGE = ROOT / "bentstretch"
+
+BARRED_WORDS = re.compile(
+    r"\b(type|typing|typing_extensions|enum|Enum|IntEnum|StrEnum|Flag|IntFlag|Generic|Protocol|ABC|ABCMeta"
+    r"|namedtuple|NamedTuple|TypedDict|TYPE_CHECKING|abstractmethod)\b|dataclass|overload|contextmanager"
+)
+BARRED_NAMES = set(
+    "register mro elements open input version_info with_traceback add_note attrgetter breakpoint builtins compile"
+    " copyright credits delattr dir eval exec exit gc getattr globals hasattr help id importlib license locals"
+    " methodcaller os quit setattr super type vars sys chr frozenset".split()
+)
+BUILTINS_LET = set(
+    "len range enumerate zip min max sum abs sorted reversed int str bool bytes list tuple dict set isinstance ord"
+    " repr any all divmod Exception ValueError TypeError KeyError IndexError LookupError ZeroDivisionError"
+    " ArithmeticError OverflowError RuntimeError NotImplementedError AttributeError StopIteration".split()
+)
+STATEMENTS_BARRED = (ast.Global, ast.AsyncFunctionDef, ast.AsyncFor, ast.AsyncWith, ast.Await, ast.Import, ast.Div)
+
+
+def files():
+    return sorted(PACKAGE.rglob("*.py"))
+
+
+def trees():
+    return [(file, ast.parse(file.read_text("utf-8"))) for file in files()]
+
+
+def nodes(kind):
+    return [(file, node) for file, tree in trees() for node in ast.walk(tree) if isinstance(node, kind)]
+
+
+def names_bound(tree):
+    """All names that a file gives a meaning to, but those of its imports."""
+    names = [node.id for node in ast.walk(tree) if isinstance(node, ast.Name) and not isinstance(node.ctx, ast.Load)]
+    names += [node.arg for node in ast.walk(tree) if isinstance(node, ast.arg)]
+    names += [node.name for node in ast.walk(tree) if isinstance(node, (ast.FunctionDef, ast.ClassDef))]
+    return [name for name in names if not (name.startswith("__") and name.endswith("__"))]
+
+
+def imported(tree):
+    return [alias.asname or alias.name for node in tree.body if isinstance(node, ast.ImportFrom) for alias in node.names]
+
+
+class Language(unittest.TestCase):
+
+    def test_files(self):
+        for path in PACKAGE.rglob("*"):
+            if "__pycache__" in path.parts:
+                continue
+            self.assertTrue(path.is_dir() or path.suffix == ".py", path)
+            self.assertRegex(path.stem, r"^([a-z][a-z0-9_]*|__init__|__main__)$")
+            if path.is_dir():
+                self.assertTrue((path / "__init__.py").exists(), path)
+                self.assertFalse(path.with_suffix(".py").exists(), path)
+        self.assertLessEqual(len(files()), 100)
+
+    def test_signs_and_sizes(self):
+        for file in files():
+            text = file.read_text("utf-8")
+            self.assertRegex(text, r"\A[\n -~]*\Z", file)
+            self.assertLessEqual(len(text.splitlines()), 400, file)
+            self.assertLessEqual(max(len(line) for line in text.splitlines()), 120, file)
+            self.assertIsNone(BARRED_WORDS.search(text), file)
+        for file, node in nodes(ast.FunctionDef):
+            self.assertLessEqual(node.end_lineno - node.lineno + 1, 40, (file, node.name))
+
+    def test_statements(self):
+        self.assertEqual(nodes(STATEMENTS_BARRED), [])
+        for file, node in nodes(ast.Constant):
+            self.assertNotIsInstance(node.value, float, file)
+            self.assertFalse(isinstance(node.value, str) and "%" in node.value, (file, node.value))
+        for file, node in nodes(ast.BinOp):
+            if isinstance(node.op, ast.Pow):
+                self.assertIsInstance(node.right, ast.Constant, file)
+                self.assertIn(node.right.value, range(65), file)
+
+    def test_imports(self):
+        for file, tree in trees():
+            heads = [node for node in tree.body if isinstance(node, ast.ImportFrom)]
+            self.assertEqual(heads, [node for node in ast.walk(tree) if isinstance(node, ast.ImportFrom)], file)
+            for node in heads:
+                self.assertEqual((node.level, node.module.split(".")[0]), (0, "bentstretch"), file)
+                source = ROOT.joinpath(*node.module.split(".")).with_suffix(".py")
+                defined = {part.name for part in ast.parse(source.read_text()).body if hasattr(part, "name")}
+                self.assertLessEqual({alias.name for alias in node.names}, defined, file)
+
+    def test_no_circle_of_imports(self):
+        heads = {}
+        for file, tree in trees():
+            name = ".".join(file.relative_to(ROOT).with_suffix("").parts)
+            heads[name] = [node.module for node in tree.body if isinstance(node, ast.ImportFrom)]
+        while heads:
+            free = [name for name in heads if not any(module in heads for module in heads[name])]
+            self.assertTrue(free, heads)
+            heads = {name: heads[name] for name in heads if name not in free}
+
+    def test_names(self):
+        for file, tree in trees():
+            for name in names_bound(tree) + imported(tree):
+                self.assertRegex(name, r"^[A-Za-z][A-Za-z0-9_]*$", file)
+                self.assertFalse(hasattr(builtins, name) or name in BARRED_NAMES, (file, name))
+            self.assertEqual(set(names_bound(tree)) & set(imported(tree)), set(), file)
+
+    def test_names_used_are_let(self):
+        for file, tree in trees():
+            known = set(names_bound(tree)) | set(imported(tree)) | BUILTINS_LET
+            used = {node.id for node in ast.walk(tree) if isinstance(node, ast.Name)}
+            self.assertLessEqual(used, known, file)
+
+    def test_imports_are_used(self):
+        for file, tree in trees():
+            used = {node.id for node in ast.walk(tree) if isinstance(node, ast.Name)}
+            self.assertLessEqual(set(imported(tree)), used, file)
+
+
+if __name__ == "__main__":
+    unittest.main()
