@@ -68,6 +68,37 @@ def height(knots, at):
     raise AssertionError("the point is not of the stretch")
 
 
+def lines_of(knots):
+    """For each two neighbouring knots (low, high, slope, value at 0), as Fractions."""
+    told = []
+    for one, other in zip(knots, knots[1:]):
+        low, high = number(one[0]), number(other[0])
+        slope = (number(other[1]) - number(one[1])) / (high - low)
+        told.append((low, high, slope, number(one[1]) - slope * low))
+    return told
+
+
+def hung_together(rows):
+    """Pairs of Fractions, put together where they meet, as the program tells them."""
+    told = []
+    for low, high in sorted(rows):
+        if told and low <= told[-1][1]:
+            told[-1][1] = max(high, told[-1][1])
+        else:
+            told.append([low, high])
+    return tuple((pair(low), pair(high)) for low, high in told)
+
+
+def spans_where(knots, candidates, holds):
+    """The points at which something holds that changes at candidates and knots alone."""
+    ends = number(knots[0][0]), number(knots[-1][0])
+    turns = {number(knot[0]) for knot in knots} | {at for at in candidates if ends[0] <= at <= ends[1]}
+    ordered = sorted(turns)
+    rows = [(at, at) for at in ordered if holds(at)]
+    rows += [(one, other) for one, other in zip(ordered, ordered[1:]) if holds((one + other) / 2)]
+    return hung_together(rows)
+
+
 def grid(knots, parts):
     """Fractions all along the stretch of a map, both ends and all knots among them."""
     low, high = number(knots[0][0]), number(knots[-1][0])

@@ -1,0 +1,1 @@
+"""Rounds: what comes back to itself, and what becomes of it."""

@@ -1,0 +1,82 @@
+"""[2]: arguments by place and by name in any order, the same asked again, nothing changed by another call."""
+
+import unittest
+
+from bentstretch.errors import NoMap, NoPoint
+from bentstretch.maps.back import comes_into, comes_to, laid_over, stays_of
+from bentstretch.maps.texts import map_shown, read_map
+from bentstretch.maps.turns import laps_of, pieces_of, put_behind, turned
+from bentstretch.maps.values import least_knots, value_of
+from bentstretch.rounds.rounds import come_round, rounds_of
+from tests.helper import made, pair
+
+TENT = made("0 0", "1/4 1/2", "1/2 1", "1 0")
+OTHER = made("0 1", "1/3 1/3", "2/3 1/3", "1 0")
+LOW, HIGH, POINT = pair("1/5"), pair("3/4"), pair("2/7")
+
+ASKED = (
+    (read_map, {"text": "0 0\n2/4 1\n1 0"}),
+    (map_shown, {"knots": TENT}),
+    (value_of, {"knots": TENT, "point": POINT}),
+    (least_knots, {"knots": TENT}),
+    (put_behind, {"one": TENT, "other": OTHER}),
+    (turned, {"knots": OTHER, "many": 3}),
+    (pieces_of, {"knots": TENT}),
+    (laps_of, {"knots": OTHER}),
+    (comes_to, {"knots": OTHER, "point": pair("1/3")}),
+    (stays_of, {"knots": OTHER}),
+    (laid_over, {"knots": TENT, "low": LOW, "high": HIGH}),
+    (comes_into, {"knots": OTHER, "low": LOW, "high": HIGH}),
+    (come_round, {"knots": TENT, "many": 3}),
+    (rounds_of, {"knots": TENT, "many": 3}),
+)
+REFUSED = (
+    (read_map, {"text": "0 0\n0 0"}, NoMap),
+    (value_of, {"knots": TENT, "point": pair(2)}, NoPoint),
+    (put_behind, {"one": TENT, "other": made("0 0", "2 2")}, NoMap),
+    (comes_to, {"knots": TENT, "point": pair(-1)}, NoPoint),
+    (laid_over, {"knots": TENT, "low": HIGH, "high": LOW}, NoPoint),
+    (comes_into, {"knots": TENT, "low": HIGH, "high": LOW}, NoPoint),
+)
+
+
+def about(named):
+    """The same names in the opposite order."""
+    return {name: named[name] for name in reversed(list(named))}
+
+
+class Interface(unittest.TestCase):
+
+    def test_by_place_and_by_name(self):
+        for asked, named in ASKED:
+            told = asked(*named.values())
+            self.assertEqual(asked(**named), told, asked)
+            self.assertEqual(asked(**about(named)), told, asked)
+            first, *others = named
+            rest = {name: named[name] for name in others}
+            self.assertEqual(asked(named[first], **about(rest)), told, asked)
+
+    def test_refused_by_name(self):
+        for asked, named, refusal in REFUSED:
+            for kept in (named, about(named)):
+                with self.assertRaises(refusal):
+                    asked(**kept)
+
+    def test_the_same_again_behind_all_others(self):
+        first = [repr(asked(**named)) for asked, named in ASKED]
+        kept = [asked(**named) for asked, named in ASKED]
+        for asked, named, refusal in REFUSED:
+            self.assertRaises(refusal, asked, *named.values())
+        again = [repr(asked(**named)) for asked, named in reversed(ASKED)]
+        self.assertEqual(again[::-1], first)
+        self.assertEqual([repr(told) for told in kept], first)
+
+    def test_nothing_handed_in_is_changed(self):
+        before = repr([named for asked, named in ASKED])
+        for asked, named in ASKED:
+            asked(**named)
+        self.assertEqual(repr([named for asked, named in ASKED]), before)
+
+
+if __name__ == "__main__":
+    unittest.main()
