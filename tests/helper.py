@@ -78,6 +78,16 @@ def lines_of(knots):
     return told
 
 
+def fewest_lines(knots):
+    """The lines of a map, those that go straight on put together."""
+    told = []
+    for low, high, slope, nought in lines_of(knots):
+        if told and told[-1][2:] == (slope, nought):
+            low = told.pop()[0]
+        told.append((low, high, slope, nought))
+    return told
+
+
 def hung_together(rows):
     """Pairs of Fractions, put together where they meet, as the program tells them."""
     told = []

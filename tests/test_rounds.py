@@ -4,9 +4,10 @@ import unittest
 from time import perf_counter
 
 from bentstretch.maps.turns import turned
-from bentstretch.maps.values import least_knots
 from bentstretch.rounds.rounds import come_round, rounds_of
-from tests.helper import are_rows, height, hung_together, is_row, lines_of, made, number, pair, points, some_maps, spans
+from tests.helper import (
+    are_rows, fewest_lines, height, hung_together, is_row, made, number, pair, points, some_maps, spans,
+)
 
 TENT = made("0 0", "1/2 1", "1 0")
 STAYS = made("0 0", "1 1")
@@ -20,9 +21,9 @@ LEVEL = made("0 1/3", "1 1/3")
 
 def round_spans(knots, many):
     """What comes round, told word by word: each way through the pieces is a straight line of its own."""
-    lines = lines_of(least_knots(knots))
+    lines = fewest_lines(knots)
     rows = []
-    ways = [(low, high, slope, nought) for low, high, slope, nought in lines]
+    ways = lines
     for turn in range(many - 1):
         ways = [found for way in ways for line in lines for found in on_through(way, line)]
     for low, high, slope, nought in ways:
@@ -61,7 +62,7 @@ def lone_rounds(knots, many):
 
 
 def most_turns(knots):
-    pieces = len(least_knots(knots)) - 1
+    pieces = len(fewest_lines(knots))
     return max(many for many in range(1, 8) if pieces ** many <= 130)
 
 

@@ -7,7 +7,7 @@ from bentstretch.errors import NoMap, NoPoint
 from bentstretch.maps.texts import map_shown, read_map
 from bentstretch.maps.turns import laps_of, pieces_of, put_behind, turned
 from bentstretch.maps.values import least_knots, value_of
-from tests.helper import are_rows, grid, height, is_whole, lines_of, made, number, pair, some_maps
+from tests.helper import are_rows, fewest_lines, grid, height, is_whole, lines_of, made, number, pair, some_maps
 
 TENT = made("0 0", "1/2 1", "1 0")
 STAYS = made("0 0", "1 1")
@@ -103,7 +103,7 @@ class Turned(unittest.TestCase):
 
     def test_against_values_taken_one_by_one(self):
         for knots in some_maps(62, 40, 6):
-            pieces = len(least_knots(knots)) - 1
+            pieces = len(fewest_lines(knots))
             many = max(many for many in range(1, 8) if pieces ** many <= 130)
             for turns in range(many + 1):
                 told = turned(knots, turns)
@@ -137,8 +137,7 @@ class Pieces(unittest.TestCase):
 
     def test_of_the_fewest_knots(self):
         for knots in some_maps(7, 40, 8, 2):
-            least = least_knots(knots)
-            told = tuple((pair(low), pair(high), pair(slope)) for low, high, slope, nought in lines_of(least))
+            told = tuple((pair(low), pair(high), pair(slope)) for low, high, slope, nought in fewest_lines(knots))
             self.assertEqual(pieces_of(knots), told)
 
 
