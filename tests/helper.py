@@ -129,3 +129,44 @@ def some_maps(seed, many, knots, coarse=6):
         tos = [low + (high - low) * chance.randint(0, coarse) / coarse for at in ats]
         told.append(tuple((pair(at), pair(to)) for at, to in zip(ats, tos)))
     return told
+
+
+def led(knots, at, many):
+    """What so many turns make of a Fraction, taken without the program."""
+    for turn in range(many):
+        at = height(knots, at)
+    return at
+
+
+def on_through(way, line):
+    """A way (low, high, slope, value at 0) that goes on through one more piece, as far as it comes into it."""
+    low, high, slope, nought = way
+    start, end, steep, base = line
+    if slope == 0:
+        ends = (low, high) if start <= nought <= end else None
+    else:
+        met = sorted(((start - nought) / slope, (end - nought) / slope))
+        ends = max(low, met[0]), min(high, met[1])
+        ends = ends if ends[0] <= ends[1] else None
+    return [(ends[0], ends[1], steep * slope, steep * nought + base)] if ends else []
+
+
+def stays_on(way):
+    """The pairs of Fractions of a way's points that are their own values: none or one."""
+    low, high, slope, nought = way
+    if slope == 1:
+        return [(low, high)] if nought == 0 else []
+    at = nought / (1 - slope)
+    return [(at, at)] if low <= at <= high else []
+
+
+def zigzag(knots, low=0, high=1):
+    """A map of so many knots, evenly apart, that goes from low to high and back on each piece."""
+    ats = [Fraction(low) + Fraction(high - low) * step / (knots - 1) for step in range(knots)]
+    return tuple((pair(at), pair(high if step % 2 else low)) for step, at in enumerate(ats))
+
+
+def square(seed, rows, most):
+    """A table of so many rows, its numbers from 0 to most, the same one each time."""
+    chance = Random(seed)
+    return tuple(tuple(chance.randint(0, most) for place in range(rows)) for row in range(rows))

@@ -39,6 +39,11 @@ class Numbers(unittest.TestCase):
                 self.same(told.lesser(pair(one), pair(other)), min(one, other))
                 self.same(told.greater(pair(one), pair(other)), max(one, other))
 
+    def test_rising(self):
+        for row in (SOME, SOME[::-1], SOME[7:20], SOME[:1], []):
+            kept = [pair(one) for one in row]
+            self.assertEqual(told.rising(tuple(kept)), [pair(one) for one in sorted(row)])
+
     def test_within(self):
         low, high = pair("-1/2"), pair("2/3")
         for word, lies in (("-1/2", True), ("2/3", True), ("0", True), ("-51/100", False), ("67/100", False)):

@@ -2,17 +2,22 @@
 
 import unittest
 
-from bentstretch.errors import NoMap, NoPoint
+from bentstretch.errors import NoLoop, NoMap, NoPoint
 from bentstretch.maps.back import comes_into, comes_to, laid_over, stays_of
 from bentstretch.maps.texts import map_shown, read_map
 from bentstretch.maps.turns import laps_of, pieces_of, put_behind, turned
 from bentstretch.maps.values import least_knots, value_of
+from bentstretch.rounds.loops import covers, loop_for, loop_point, loop_shown
 from bentstretch.rounds.rounds import come_round, rounds_of
-from tests.helper import made, pair
+from bentstretch.rounds.sides import sides_at, slope_of_round
+from bentstretch.rounds.ways import told_apart, way_of
+from tests.helper import made, pair, points, spans
 
 TENT = made("0 0", "1/4 1/2", "1/2 1", "1 0")
 OTHER = made("0 1", "1/3 1/3", "2/3 1/3", "1 0")
+THREE = made("0 1", "1 2", "2 0")
 LOW, HIGH, POINT = pair("1/5"), pair("3/4"), pair("2/7")
+WAY = points("0", "1", "2")
 
 ASKED = (
     (read_map, {"text": "0 0\n2/4 1\n1 0"}),
@@ -29,6 +34,14 @@ ASKED = (
     (comes_into, {"knots": OTHER, "low": LOW, "high": HIGH}),
     (come_round, {"knots": TENT, "many": 3}),
     (rounds_of, {"knots": TENT, "many": 3}),
+    (sides_at, {"knots": TENT, "point": POINT, "many": 3}),
+    (slope_of_round, {"knots": TENT, "points": points("2/5", "4/5")}),
+    (way_of, {"knots": OTHER, "point": POINT, "many": 5}),
+    (told_apart, {"knots": TENT, "one": LOW, "other": pair("1/4"), "width": pair("1/3"), "many": 9}),
+    (covers, {"knots": THREE, "one": (pair(0), pair(1)), "other": (pair(1), pair(2))}),
+    (loop_point, {"knots": THREE, "loop": spans("0 1", "1 2")}),
+    (loop_for, {"knots": THREE, "points": WAY, "many": 5}),
+    (loop_shown, {"knots": THREE, "points": WAY, "many": 2, "loop": spans("0 1", "1 2")}),
 )
 REFUSED = (
     (read_map, {"text": "0 0\n0 0"}, NoMap),
@@ -37,6 +50,10 @@ REFUSED = (
     (comes_to, {"knots": TENT, "point": pair(-1)}, NoPoint),
     (laid_over, {"knots": TENT, "low": HIGH, "high": LOW}, NoPoint),
     (comes_into, {"knots": TENT, "low": HIGH, "high": LOW}, NoPoint),
+    (sides_at, {"knots": TENT, "point": POINT, "many": 6}, NoPoint),
+    (way_of, {"knots": TENT, "point": pair(2), "many": 0}, NoPoint),
+    (told_apart, {"knots": TENT, "one": LOW, "other": pair(-1), "width": pair(0), "many": 0}, NoPoint),
+    (loop_point, {"knots": TENT, "loop": ()}, NoLoop),
 )
 
 

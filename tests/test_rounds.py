@@ -6,7 +6,8 @@ from time import perf_counter
 from bentstretch.maps.turns import turned
 from bentstretch.rounds.rounds import come_round, rounds_of
 from tests.helper import (
-    are_rows, fewest_lines, height, hung_together, is_row, made, number, pair, points, some_maps, spans,
+    are_rows, fewest_lines, height, hung_together, is_row, made, number, on_through, pair, points, some_maps, spans,
+    stays_on,
 )
 
 TENT = made("0 0", "1/2 1", "1 0")
@@ -22,29 +23,10 @@ LEVEL = made("0 1/3", "1 1/3")
 def round_spans(knots, many):
     """What comes round, told word by word: each way through the pieces is a straight line of its own."""
     lines = fewest_lines(knots)
-    rows = []
     ways = lines
     for turn in range(many - 1):
         ways = [found for way in ways for line in lines for found in on_through(way, line)]
-    for low, high, slope, nought in ways:
-        if slope == 1:
-            rows += [(low, high)] if nought == 0 else []
-        elif low <= nought / (1 - slope) <= high:
-            rows.append((nought / (1 - slope),) * 2)
-    return hung_together(rows)
-
-
-def on_through(way, line):
-    """A way that goes on through one more piece, as far as it comes into it: none or one."""
-    low, high, slope, nought = way
-    start, end, steep, base = line
-    if slope == 0:
-        ends = (low, high) if start <= nought <= end else None
-    else:
-        met = sorted(((start - nought) / slope, (end - nought) / slope))
-        ends = max(low, met[0]), min(high, met[1])
-        ends = ends if ends[0] <= ends[1] else None
-    return [(ends[0], ends[1], steep * slope, steep * nought + base)] if ends else []
+    return hung_together([span for way in ways for span in stays_on(way)])
 
 
 def lone_rounds(knots, many):

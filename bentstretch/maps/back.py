@@ -5,9 +5,14 @@ from bentstretch.maps.fractions import greater, less, lesser, minus, within
 from bentstretch.maps.values import in_stretch, on_line, value_of
 
 
+def is_stretch(knots, low, high):
+    """Whether low and high are the ends of a stretch within the map's."""
+    return not less(high, low) and in_stretch(knots, low) and in_stretch(knots, high)
+
+
 def need_stretch(knots, low, high):
     """Refuses with NoPoint what is no stretch within the map's."""
-    if less(high, low) or not in_stretch(knots, low) or not in_stretch(knots, high):
+    if not is_stretch(knots, low, high):
         raise NoPoint("this is no stretch within the map's")
 
 

@@ -64,6 +64,14 @@ def within(point, low, high):
     return not less(point, low) and not less(high, point)
 
 
+def rising(row):
+    """A list of fractions in rising order."""
+    common = 1
+    for above, below in row:
+        common = common * below // common_divisor(common, below)
+    return sorted(row, key=lambda one: one[0] * (common // one[1]))
+
+
 def is_number(word):
     """Whether a text is a number from 0 on, in figures without a nought ahead."""
     if word == "" or not all(sign in FIGURES for sign in word):

@@ -16,15 +16,20 @@ def bends_within(start, end, knots):
     return [(on_line(first, last, at), to) for at, to in met]
 
 
-def put_behind(one, other):
-    """The map that has at each point the second's value at the first's value."""
-    if one[0][0] != other[0][0] or one[-1][0] != other[-1][0]:
-        raise NoMap(0)
+def led_on(one, other):
+    """The knots of a row of straight pieces, each point led on to the map's value at its value."""
     knots = [(one[0][0], value_of(other, one[0][1]))]
     for start, end in zip(one, one[1:]):
         knots.extend(bends_within(start, end, other))
         knots.append((end[0], value_of(other, end[1])))
-    return least_knots(tuple(knots))
+    return tuple(knots)
+
+
+def put_behind(one, other):
+    """The map that has at each point the second's value at the first's value."""
+    if one[0][0] != other[0][0] or one[-1][0] != other[-1][0]:
+        raise NoMap(0)
+    return least_knots(led_on(one, other))
 
 
 def turned(knots, many):

@@ -19,6 +19,13 @@ def way_round(knots, point, many):
     return tuple(way)
 
 
+def has_length(knots, point, many):
+    """Whether just so many turns, and no fewer, bring a point round; NoPoint outside of the stretch."""
+    way = way_round(knots, point, many)
+    # Of less than one turn the way is too long: no point has such a length.
+    return len(way) == many and point not in way[1:] and value_of(knots, way[-1]) == point
+
+
 def rounds_of(knots, many):
     """The lone rounds of a length, the least point first, in the order of their least points."""
     told = []
