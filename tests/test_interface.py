@@ -2,11 +2,15 @@
 
 import unittest
 
-from bentstretch.errors import NoLoop, NoMap, NoPoint
+from bentstretch.errors import NoLoop, NoMap, NoParting, NoPoint
 from bentstretch.maps.back import comes_into, comes_to, laid_over, stays_of
 from bentstretch.maps.texts import map_shown, read_map
 from bentstretch.maps.turns import laps_of, pieces_of, put_behind, turned
 from bentstretch.maps.values import least_knots, value_of
+from bentstretch.mix.mixing import mix_between, mix_poly, mix_with, round_words, round_words_by
+from bentstretch.parts.partings import fits, least_parting, table_of
+from bentstretch.parts.words import how_many_words, point_of, stretch_of, word_comes
+from bentstretch.rounds.lengths import brings, lengths_of
 from bentstretch.rounds.loops import covers, loop_for, loop_point, loop_shown
 from bentstretch.rounds.rounds import come_round, rounds_of
 from bentstretch.rounds.sides import sides_at, slope_of_round
@@ -18,6 +22,7 @@ OTHER = made("0 1", "1/3 1/3", "2/3 1/3", "1 0")
 THREE = made("0 1", "1 2", "2 0")
 LOW, HIGH, POINT = pair("1/5"), pair("3/4"), pair("2/7")
 WAY = points("0", "1", "2")
+TABLE = ((1, 1), (9, 0))
 
 ASKED = (
     (read_map, {"text": "0 0\n2/4 1\n1 0"}),
@@ -42,6 +47,20 @@ ASKED = (
     (loop_point, {"knots": THREE, "loop": spans("0 1", "1 2")}),
     (loop_for, {"knots": THREE, "points": WAY, "many": 5}),
     (loop_shown, {"knots": THREE, "points": WAY, "many": 2, "loop": spans("0 1", "1 2")}),
+    (brings, {"one": 6, "other": 4}),
+    (lengths_of, {"knots": THREE, "most": 4}),
+    (fits, {"knots": THREE, "parting": WAY}),
+    (least_parting, {"knots": TENT, "most": 3}),
+    (table_of, {"knots": THREE, "parting": WAY}),
+    (word_comes, {"table": TABLE, "word": (0, 1, 0, 0)}),
+    (how_many_words, {"table": TABLE, "letters": 5}),
+    (stretch_of, {"knots": THREE, "parting": WAY, "word": (0, 1, 1)}),
+    (point_of, {"knots": THREE, "parting": WAY, "word": (0, 1, 1)}),
+    (mix_poly, {"table": TABLE}),
+    (mix_between, {"table": TABLE, "width": pair("1/1000")}),
+    (mix_with, {"table": TABLE, "fraction": pair("7/2")}),
+    (round_words, {"table": TABLE, "many": 7}),
+    (round_words_by, {"poly": (-9, -1, 1), "many": 7}),
 )
 REFUSED = (
     (read_map, {"text": "0 0\n0 0"}, NoMap),
@@ -54,6 +73,10 @@ REFUSED = (
     (way_of, {"knots": TENT, "point": pair(2), "many": 0}, NoPoint),
     (told_apart, {"knots": TENT, "one": LOW, "other": pair(-1), "width": pair(0), "many": 0}, NoPoint),
     (loop_point, {"knots": TENT, "loop": ()}, NoLoop),
+    (table_of, {"knots": THREE, "parting": WAY[:2]}, NoParting),
+    (stretch_of, {"knots": THREE, "parting": WAY[1:], "word": ()}, NoParting),
+    (point_of, {"knots": THREE, "parting": WAY[1:], "word": ()}, NoParting),
+    (point_of, {"knots": THREE, "parting": WAY, "word": (0, 0)}, NoLoop),
 )
 
 

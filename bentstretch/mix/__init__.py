@@ -1,0 +1,1 @@
+"""How much tables mix."""
