@@ -23,6 +23,13 @@ BUILTINS_LET = set(
     " repr any all divmod Exception ValueError TypeError KeyError IndexError LookupError ZeroDivisionError"
     " ArithmeticError OverflowError RuntimeError NotImplementedError AttributeError StopIteration".split()
 )
+METHODS_LET = set(
+    "append clear copy count endswith extend find get index insert isalnum isalpha isdigit islower isspace isupper items"
+    " join keys ljust lower lstrip partition pop remove replace reverse rfind rjust rpartition rsplit rstrip setdefault"
+    " split splitlines startswith strip update upper values zfill bit_length __init__".split()
+)
+ITERATED_AT_ONCE = set("zip enumerate reversed range items keys values".split())
+ITERATING = set("list tuple dict sorted sum any all enumerate zip bytes min max".split())
 STATEMENTS_BARRED = (ast.Global, ast.AsyncFunctionDef, ast.AsyncFor, ast.AsyncWith, ast.Await, ast.Import, ast.Div)
 
 
@@ -36,6 +43,22 @@ def trees():
 
 def nodes(kind):
     return [(file, node) for file, tree in trees() for node in ast.walk(tree) if isinstance(node, kind)]
+
+
+def called(node):
+    """The name of what is called, of a function or a method."""
+    return node.func.attr if isinstance(node.func, ast.Attribute) else getattr(node.func, "id", None)
+
+
+def iterates(parent, node):
+    """Whether what stands around a call iterates it on the spot."""
+    if isinstance(parent, (ast.For, ast.comprehension)):
+        return parent.iter is node
+    if not isinstance(parent, ast.Call) or node not in parent.args:
+        return False
+    if called(parent) == "join":
+        return isinstance(parent.func.value, ast.Constant)
+    return called(parent) == "zip" or called(parent) in ITERATING and parent.args[0] is node
 
 
 def names_bound(tree):
@@ -82,6 +105,21 @@ class Language(unittest.TestCase):
             if isinstance(node.op, ast.Pow):
                 self.assertIsInstance(node.right, ast.Constant, file)
                 self.assertIn(node.right.value, range(65), file)
+
+    def test_iterated_at_once(self):
+        for file, parent in nodes(ast.AST):
+            for node in ast.iter_child_nodes(parent):
+                if isinstance(node, ast.Call) and called(node) in ITERATED_AT_ONCE:
+                    self.assertTrue(iterates(parent, node), (file, node.lineno))
+
+    def test_is_and_methods(self):
+        for file, node in nodes(ast.Compare):
+            for sign, other in zip(node.ops, node.comparators):
+                if isinstance(sign, (ast.Is, ast.IsNot)):
+                    self.assertTrue(isinstance(other, ast.Constant) and other.value in (None, True, False), file)
+        for file, node in nodes(ast.Call):
+            if isinstance(node.func, ast.Attribute):
+                self.assertIn(node.func.attr, METHODS_LET, (file, node.lineno))
 
     def test_imports(self):
         for file, tree in trees():

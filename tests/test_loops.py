@@ -297,6 +297,10 @@ class Papers(unittest.TestCase):
         self.assertIsNone(loop_for(TENT, points("2/3"), 1))
         self.assertIs(loop_shown(TENT, points("2/3"), 1, spans("2/3 2/3")), False)
 
+    def test_no_turns_have_no_paper(self):
+        self.assertIsNone(loop_for(THREE, points("0", "1", "2"), 0))
+        self.assertIs(loop_shown(THREE, points("0", "1", "2"), 0, ()), False)
+
     def test_six_turns_of_seven_points_within_seconds(self):
         seven = made("0 3", "1 4", "2 5", "3 6", "4 2", "5 1", "6 0")
         for knots, way in ((seven, points("0", "3", "6")), (TENT, rounds_of(TENT, 7)[9]), (TENT, rounds_of(TENT, 7)[0])):

@@ -69,8 +69,6 @@ def moved(poly, point):
 
 def root_against(poly, point):
     """The greatest real root of a table's polynomial, compared with a fraction: -1, 0 or 1."""
-    if point[0] < 0:
-        return 1
     # No root of a table's polynomial is farther from 0 than its greatest real one. So where that one is not
     # beyond the point, none of these numbers is below 0; and where none is, no root can lie beyond the point.
     row = moved(poly, point)
