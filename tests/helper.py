@@ -170,3 +170,35 @@ def square(seed, rows, most):
     """A table of so many rows, its numbers from 0 to most, the same one each time."""
     chance = Random(seed)
     return tuple(tuple(chance.randint(0, most) for place in range(rows)) for row in range(rows))
+
+
+def some_humps(seed, many, coarse=6):
+    """Maps with one hump, of 3 to 6 knots on unlike stretches, and their turns, the same ones each time."""
+    chance = Random(seed)
+    told = []
+    while len(told) < many:
+        low = Fraction(chance.randint(-9, 9), chance.randint(1, 4))
+        wide = Fraction(chance.randint(1, 12), chance.randint(1, 4))
+        shares = [0] + sorted(chance.sample(range(1, 2 * coarse), chance.randint(1, 4))) + [2 * coarse]
+        top = chance.randint(1, len(shares) - 2)
+        peak = chance.randint(top, 2 * coarse) if chance.randint(0, 2) else 2 * coarse
+        if peak < max(top, len(shares) - 1 - top):
+            continue
+        rises = sorted(chance.sample(range(peak), top))
+        falls = sorted(chance.sample(range(peak), len(shares) - 1 - top), reverse=True)
+        tos = rises + [peak] + falls
+        knots = tuple(
+            (pair(low + wide * share / (2 * coarse)), pair(low + wide * to / (2 * coarse))) for share, to in zip(shares, tos)
+        )
+        told.append((knots, knots[top][0]))
+    return told
+
+
+def with_more(knots):
+    """The same map with a knot more, at which it goes straight on, of many figures, amid each piece."""
+    told = [knots[0]]
+    for one, other in zip(knots, knots[1:]):
+        share = Fraction(123456789, 987654321987)
+        at = number(one[0]) + (number(other[0]) - number(one[0])) * share
+        told += [(pair(at), pair(height((one, other), at))), other]
+    return tuple(told)

@@ -9,7 +9,7 @@ SHARE_POWER = 10 ** 60
 
 
 def common_divisor(one, other):
-    """The greatest whole number that divides both, which are not both 0."""
+    """The greatest whole number that divides both; 0 where both are 0."""
     one, other = abs(one), abs(other)
     while other:
         one, other = other, one % other
@@ -42,6 +42,14 @@ def times(one, other):
 def over(one, other):
     """The first fraction over the second, which is not 0."""
     return fraction(one[0] * other[1], one[1] * other[0])
+
+
+def summed(row):
+    """The sum of a row of fractions, 0 of none."""
+    total = (0, 1)
+    for one in row:
+        total = plus(total, one)
+    return total
 
 
 def less(one, other):

@@ -9,6 +9,12 @@ def in_stretch(knots, point):
     return within(point, knots[0][0], knots[-1][0])
 
 
+def need_point(knots, point):
+    """Refuses with NoPoint what is no point of the stretch."""
+    if not in_stretch(knots, point):
+        raise NoPoint("the point is not of the stretch")
+
+
 def slope_between(one, other):
     """By how much the line through two knots rises."""
     return over(minus(other[1], one[1]), minus(other[0], one[0]))
@@ -21,8 +27,7 @@ def on_line(one, other, point):
 
 def value_of(knots, point):
     """The value of a map at a point of its stretch; NoPoint elsewhere."""
-    if not in_stretch(knots, point):
-        raise NoPoint("the point is not of the stretch")
+    need_point(knots, point)
     place = 1
     while less(knots[place][0], point):
         place += 1

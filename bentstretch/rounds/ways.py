@@ -1,14 +1,7 @@
 """The way of a point, and by how many turns two points are told apart."""
 
-from bentstretch.errors import NoPoint
 from bentstretch.maps.fractions import greater, less, lesser, minus
-from bentstretch.maps.values import in_stretch, value_of
-
-
-def need_point(knots, point):
-    """Refuses with NoPoint what is no point of the stretch."""
-    if not in_stretch(knots, point):
-        raise NoPoint("the point is not of the stretch")
+from bentstretch.maps.values import need_point, value_of
 
 
 def way_of(knots, point, many):

@@ -1,0 +1,1 @@
+"""Maps that are alike by a turn of their stretch."""
