@@ -121,6 +121,61 @@ class Language(unittest.TestCase):
             if isinstance(node.func, ast.Attribute):
                 self.assertIn(node.func.attr, METHODS_LET, (file, node.lineno))
 
+    def test_module_level(self):
+        for file, tree in trees():
+            above = set()
+            for place, node in enumerate(tree.body):
+                if isinstance(node, ast.FunctionDef):
+                    above.add(node.name)
+                if isinstance(node, ast.Expr):
+                    self.assertTrue(place == 0 and isinstance(node.value, ast.Constant), (file, node.lineno))
+                elif isinstance(node, ast.Assign):
+                    self.assertEqual([isinstance(target, ast.Name) for target in node.targets], [True], file)
+                    self.plain(file, node.value, above)
+                else:
+                    self.assertIsInstance(node, (ast.ImportFrom, ast.FunctionDef, ast.ClassDef), (file, node.lineno))
+
+    def plain(self, file, value, above):
+        """A value of the module level is a plain one, or a list, tuple or dict of such and of functions above it."""
+        kinds = (ast.Constant, ast.Tuple, ast.List, ast.Dict, ast.Name, ast.BinOp, ast.UnaryOp, ast.operator, ast.unaryop)
+        for node in ast.walk(value):
+            self.assertIsInstance(node, kinds + (ast.Load,), (file, value.lineno))
+            self.assertTrue(not isinstance(node, ast.Name) or node.id in above, (file, value.lineno))
+        if isinstance(value, (ast.List, ast.Dict)):
+            inner = [node for node in ast.walk(value) if isinstance(node, (ast.List, ast.Dict))]
+            self.assertEqual(inner, [value], (file, value.lineno))
+
+    def test_classes(self):
+        methods, attributes = set(), set()
+        for file, node in nodes(ast.ClassDef):
+            self.assertEqual(node.decorator_list, [], file)
+            names = [part.name for part in node.body if isinstance(part, ast.FunctionDef)]
+            self.assertEqual(len(names), len(set(names)), file)
+            methods |= set(names)
+        for file, node in nodes(ast.Attribute):
+            if isinstance(node.ctx, ast.Store):
+                attributes.add(node.attr)
+        self.assertEqual(methods & attributes, set())
+        read = {node.attr for file, node in nodes(ast.Attribute) if isinstance(node.ctx, ast.Load)}
+        self.assertLessEqual(read, attributes | METHODS_LET)
+        self.assertFalse(attributes & METHODS_LET)
+
+    def test_raised_on_the_spot(self):
+        errors = {node.name for file, node in nodes(ast.ClassDef) if file.name == "errors.py"}
+        for file, node in nodes(ast.Raise):
+            self.assertTrue(isinstance(node.exc, ast.Call) and called(node.exc) in errors, (file, node.lineno))
+        for file, node in nodes(ast.ExceptHandler):
+            self.assertIn(getattr(node.type, "id", None), errors, (file, node.lineno))
+
+    def test_generators_and_sets(self):
+        self.assertEqual(nodes((ast.Set, ast.SetComp, ast.Yield, ast.YieldFrom)), [])
+        for file, parent in nodes(ast.AST):
+            for node in ast.iter_child_nodes(parent):
+                if isinstance(node, ast.GeneratorExp):
+                    self.assertTrue(isinstance(parent, ast.Call) and called(parent) in ("any", "all"), (file, node.lineno))
+                if isinstance(node, ast.Starred):
+                    self.assertIsInstance(node.value, ast.Name, (file, node.lineno))
+
     def test_imports(self):
         for file, tree in trees():
             heads = [node for node in tree.body if isinstance(node, ast.ImportFrom)]

@@ -28,9 +28,9 @@ def read_knots(lines):
     return tuple(knots)
 
 
-def read_map(text):
-    """The map that a text is, with all its knots as they are; NoMap where it is none."""
-    knots = read_knots(text.split("\n"))
+def read_lines(lines):
+    """The map that lines are, with all its knots as they are; NoMap where they are none."""
+    knots = read_knots(lines)
     # A single knot lacks its second line, wherever its own to may lie.
     if len(knots) == 1:
         raise NoMap(1)
@@ -41,6 +41,16 @@ def read_map(text):
     return knots
 
 
+def read_map(text):
+    """The map that a text is, with all its knots as they are; NoMap where it is none."""
+    return read_lines(text.split("\n"))
+
+
+def row_shown(row):
+    """Fractions in one row, parted by single blanks."""
+    return " ".join([fraction_shown(one) for one in row])
+
+
 def map_shown(knots):
     """The text of a map, with all its knots as they are."""
-    return "\n".join([fraction_shown(at) + " " + fraction_shown(to) for at, to in knots])
+    return "\n".join([row_shown(knot) for knot in knots])
